@@ -20,8 +20,11 @@ func (d *Dice) Of(l ...int) int { return l[d.Roll(len(l))] }
 
 // Literal is a literal over so many variables, of small numbers.
 func (d *Dice) Literal(vars int) api.Expr {
-	if d.Roll(8) == 0 {
+	switch d.Roll(8) {
+	case 0:
 		return api.Expr{Op: d.Of(api.ETrue, api.EFalse), At: d.Roll(99)}
+	case 1:
+		return api.Expr{Op: api.ENot, At: d.Roll(99), L: []api.Expr{d.Literal(vars)}}
 	}
 	return api.Expr{
 		Op: d.Of(api.EEq, api.ENe, api.ELt, api.EGe),

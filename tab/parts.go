@@ -51,19 +51,27 @@ func (n *numbered) number(e api.Expr) int {
 
 // literal is the number of a literal, which it gets, if it has none.
 func (n *numbered) literal(e api.Expr) int {
-	at, not := len(n.l), -1
-	for _, i := range n.lits {
-		if expr.Same(n.l[i].lit, e) {
-			return i
-		}
-		if negates(n.l[i].lit, e) || negates(e, n.l[i].lit) {
-			not = i
-			n.l[i].not = at
-		}
+	if i := n.find(func(x api.Expr) bool { return expr.Same(x, e) }); i >= 0 {
+		return i
+	}
+	at := len(n.l)
+	not := n.find(func(x api.Expr) bool { return negates(x, e) || negates(e, x) })
+	if not >= 0 {
+		n.l[not].not = at
 	}
 	n.l = append(n.l, part{op: isLit, lit: e, when: when(e), not: not})
 	n.lits = append(n.lits, at)
 	return at
+}
+
+// find is the number of the first literal that is meant; below 0: none is.
+func (n *numbered) find(meant func(x api.Expr) bool) int {
+	for _, i := range n.lits {
+		if meant(n.l[i].lit) {
+			return i
+		}
+	}
+	return -1
 }
 
 // negates: is a literal the negation of another one?

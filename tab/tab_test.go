@@ -256,6 +256,8 @@ func TestOfKnown(t *testing.T) {
 		{"a == 1 U X a == 1", []api.Word{word("02", 1), word("220", 2)}, []api.Word{word("00", 0)}},
 		{"false R (true U a == 1 & true U b == 1)", []api.Word{word("012", 0), word("3", 0)}, []api.Word{word("201", 2), word("2", 0)}},
 		{"false R X (a == 1 U b == 1)", []api.Word{word("01", 1), word("21", 0)}, []api.Word{word("2", 0), word("0", 0)}},
+		{"! true | true U b == 1 & ! true | (! true R ! b == 1) & true U true", []api.Word{word("02", 1)}, []api.Word{word("01", 0)}},
+		{"X a == 1 & ! a == 1 | X ! ! a == 1 & a == 1", []api.Word{word("02", 1), word("2", 0)}, []api.Word{word("0", 0), word("20", 0)}},
 		{many("X ", 100) + "a == 1", []api.Word{word(many("0", 100)+"2", 0), word("2", 0)}, []api.Word{word(many("2", 100)+"0", 100)}},
 		{many("X true & ", 300) + "a == 1", []api.Word{word("2", 0)}, []api.Word{word("0", 0)}},
 	} {
