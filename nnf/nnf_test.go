@@ -96,6 +96,16 @@ func TestPlaces(t *testing.T) {
 	}
 }
 
+// R3: what comes out is in memory of its own, and so is each of its parts.
+func TestOwn(t *testing.T) {
+	e := read(t, "a == 1 <-> X b == 2")
+	of, _ := Of(e)
+	of.L[0].L[0].L[1].N = 9
+	if expr.Show(of, abc) != "(((a == 9) & (X (b == 2))) | ((! (a == 1)) & (X (! (b == 2)))))" || !expr.Same(e, read(t, "a == 1 <-> X b == 2")) {
+		t.Error(expr.Show(of, abc), expr.Show(e, abc))
+	}
+}
+
 // P16.2: what has more than 24 parts is refused, however many more it has.
 func TestBig(t *testing.T) {
 	many := strings.Repeat

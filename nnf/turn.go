@@ -1,6 +1,9 @@
 package nnf
 
-import "scrutiny/api"
+import (
+	"scrutiny/api"
+	"scrutiny/trees"
+)
 
 // turner makes formulas that are right. It stops where there would be too many parts: equivalences make them twice as
 // many each time, so they can't be made first and counted then.
@@ -35,13 +38,14 @@ func (t *turner) turn(s side) api.Expr {
 	return t.deed(s)()
 }
 
-// literal is a literal, or its negation.
+// literal is a literal, or its negation; in memory of its own, since it may come out more than once.
 func (t *turner) literal(s side) api.Expr {
 	t.left--
+	e := trees.Copied(s.e)
 	if s.not {
-		return api.Expr{Op: api.ENot, At: s.e.At, L: []api.Expr{s.e}}
+		return api.Expr{Op: api.ENot, At: e.At, L: []api.Expr{e}}
 	}
-	return s.e
+	return e
 }
 
 // join puts sides together.

@@ -21,9 +21,6 @@ func text(v []int) string {
 	return string(b)
 }
 
-// Has: is a vector there?
-func (l *List) Has(v []int) bool { return l.texts[text(v)] }
-
 // Add puts a vector behind the others, if it isn't there; the vector is kept.
 func (l *List) Add(v []int) bool {
 	k := text(v)

@@ -4,6 +4,7 @@ import (
 	"slices"
 
 	"scrutiny/api"
+	"scrutiny/trees"
 )
 
 // What is written on a sheet: sets of parts.
@@ -55,11 +56,11 @@ func Of(e api.Expr) api.Aut {
 	return out
 }
 
-// literals are a state's literals.
+// literals are a state's literals, without places: what comes out hangs on none.
 func (m *maker) literals(s state) []api.Expr {
 	var out []api.Expr
 	for _, i := range s.lits.parts() {
-		out = append(out, bare(m.parts[i].lit))
+		out = append(out, trees.Bare(m.parts[i].lit))
 	}
 	return out
 }

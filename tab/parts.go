@@ -94,12 +94,3 @@ func varies(e api.Expr) bool {
 	}
 	return e.Op == api.EVar
 }
-
-// bare is an expression in memory of its own, without places: what comes out hangs on none.
-func bare(e api.Expr) api.Expr {
-	out := api.Expr{Op: e.Op, N: e.N}
-	for _, x := range e.L {
-		out.L = append(out.L, bare(x))
-	}
-	return out
-}
