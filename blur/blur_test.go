@@ -95,7 +95,8 @@ func TestFlags(t *testing.T) {
 		is, d := Get(u, []byte(x.key), x.flag)
 		no, _ := Get(b, []byte(x.key), x.flag)
 		other, _ := Get(u, []byte(x.key), 1-x.flag)
-		if e != x.want || d != x.want || is != (e == api.OK) || no || other || e != api.OK && !reflect.DeepEqual(u, b) {
+		again, _ := Get(u, []byte(x.key), 1-x.flag)
+		if again || e != x.want || d != x.want || is != (e == api.OK) || no || other || e != api.OK && !reflect.DeepEqual(u, b) {
 			t.Error(i, e, d, is, no, other)
 		}
 	}

@@ -105,6 +105,8 @@ func TestErrors(t *testing.T) {
 		{"var x 0 1", "?", bad, fault(api.ErrForm, 9)}, {"", "?", bad, fault(api.ErrForm, 0)}, {leave, "x == ", bad, fault(api.ErrForm, 5)}, {leave, "x", bad, fault(api.ErrType, 0)}, {leave, "x == y", bad, fault(api.ErrName, 5)},
 		{leave, "true", bad, fault(api.ErrArg, 0)}, {leave, "true", with(func(o *api.Opts) { o.Stack = 1<<20 + 1 }), fault(api.ErrArg, 0)}, {leave, "true", with(func(o *api.Opts) { o.Kind = 5 }), fault(api.ErrArg, 0)}, {leave, "true", most(-1), fault(api.ErrArg, 0)}, {leave, "true", most(1<<20 + 1), fault(api.ErrArg, 0)}, {leave, "true", lossy(0), fault(api.ErrArg, 0)}, {leave, "true", with(func(o *api.Opts) { o.Stack = math.MinInt }), fault(api.ErrArg, 0)},
 		{leave, "true", most(5), fault(api.ErrBounds, 0, 4)}, {leave, "true", most(4), fault(api.ErrFull, 0)}, {leave, "x == 1", most(99), fault(api.ErrBounds, 0, 4)}, {leave, "true", lossy(1 << 16), fault(api.ErrBounds, 0, 4)}, {leave, "true", lossy(1), api.Verdict{Kind: api.VNothing}},
+		{count, "true", with(func(o *api.Opts) { o.Stack = 1 }), api.Verdict{Kind: api.VHolds}}, {count, "true", with(func(o *api.Opts) { o.Stack = 1 << 20 }), api.Verdict{Kind: api.VHolds}}, {count, "true", most(1 << 20), api.Verdict{Kind: api.VHolds}},
+		{"var x 0 2 0; proc P { x == 0 : x = 1; x == 0 : x = 2; }", "true", most(3), api.Verdict{Kind: api.VHolds}}, {"var x 0 2 0; proc P { x == 0 : x = 1; x == 0 : x = 2; }", "true", most(2), fault(api.ErrFull, 0)}, // the last one that comes is there
 		{count, "true", most(3), api.Verdict{Kind: api.VHolds}}, {count, "true", most(2), fault(api.ErrFull, 0)}, {count, "true", most(0), fault(api.ErrFull, 0)}, {count, "true", lossy(1), api.Verdict{Kind: api.VNothing}},
 		{count, "F x == 3", with(func(o *api.Opts) { o.Stack = 2 }), fault(api.ErrStack, 0)}, {count, "F x == 3", most(3), api.Verdict{Kind: api.VViolated, Lasso: api.Lasso{Stem: row(0, 1), Cycle: row(2)}}},
 		{count, "!(" + shift + ")", most(99), fault(api.ErrBig, 0)}, {leave, "!(" + shift + ")", most(99), fault(api.ErrBounds, 0, 4)}, {count, "!(" + shift + ")", most(2), fault(api.ErrFull, 0)}, {count, "!(" + shift + ")", lossy(99), fault(api.ErrBig, 0)},
@@ -339,7 +341,7 @@ func TestEnoughBig(t *testing.T) {
 	// x goes from 0 to Hi again and again, and y is how often: as many states as x has values, times as many as y has.
 	wide := func(x, y int, more string) string {
 		hi := strconv.Itoa(x - 1)
-		return "var x 0 65535 0; var y 0 15 0; var z 0 1 0; proc P { x < " + hi + " : x = x + 1; x == " + hi + " & y < " + strconv.Itoa(y-1) + " : x = 0, y = y + 1; " + more + "}"
+		return "var x 0 65535 0; var y 0 2000 0; var z 0 1 0; proc P { x < " + hi + " : x = x + 1; x == " + hi + " & y < " + strconv.Itoa(y-1) + " : x = 0, y = y + 1; " + more + "}"
 	}
 	for i, x := range []struct {
 		text, formula string
@@ -347,7 +349,8 @@ func TestEnoughBig(t *testing.T) {
 		e             api.Errno
 	}{
 		{wide(65535, 16, ""), "true", 65535*16 + 1, api.OK},
-		{wide(65536, 16, ""), "true", 0, api.ErrBig}, // 1 too many
+		{wide(1025, 1023, ""), "true", 1 << 20, api.OK}, // as much as may be
+		{wide(65536, 16, ""), "true", 0, api.ErrBig},    // 1 too many
 		{wide(65536, 16, "z == 0 & x == 65535 & y == 15 : z = 1; "), "true", 0, api.ErrBig},
 		{wide(65536, 16, "x == 65535 & y == 15 : z = 2; "), "true", 0, api.ErrBounds},
 		{wide(65536, 6, ""), "G x >= 0", 0, api.ErrBig}, // times 3

@@ -159,6 +159,36 @@ func TestSet(t *testing.T) {
 	}
 }
 
+// P7.2, P7.4: parts of many different kinds are told apart.
+func TestManyParts(t *testing.T) {
+	s := []api.Field{{Lo: 0, Hi: 65535}, {Lo: 0, Hi: 1}, {Lo: 0, Hi: 65535}}
+	c, _ := New(s, 1<<20)
+	n := 70000
+	vector := func(i int) []int { return []int{i % 65536, i / 65536, i % 65536} }
+	for i := range n {
+		u, more, e := Insert(c, s, vector(i))
+		if !more || e != api.OK {
+			t.Fatal(i, more, e)
+		}
+		c = u
+	}
+	if Many(c) != n || !slices.Equal(Parts(c), []int{n, 65536}) {
+		t.Error(Many(c), Parts(c))
+	}
+	for i := range n {
+		v := vector(i)
+		is, _ := Member(c, s, v)
+		v[2] = (v[2] + 256) % 65536
+		no, _ := Member(c, s, v)
+		v[2] = vector(i)[2]
+		v[0] = (v[0] + 512) % 65536
+		none, _ := Member(c, s, v)
+		if !is || no || none {
+			t.Fatal(i, is, no, none)
+		}
+	}
+}
+
 // R3: stores that come of one stay apart.
 func TestApart(t *testing.T) {
 	s := ranges(3)

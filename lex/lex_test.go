@@ -51,6 +51,36 @@ func TestTokens(t *testing.T) {
 	}
 }
 
+// P12.2: what each byte begins, and which go on with a name or a number.
+func TestBytes(t *testing.T) {
+	const letters, digits = "abcdefghijklmnopqrstuvwxyzABCDEFGHIJKLMNOPQRSTUVWXYZ_", "0123456789"
+	for c := range 256 {
+		s := string([]byte{byte(c)})
+		l, e, at := Tokens(s)
+		want := 0
+		switch {
+		case strings.Contains(letters, s):
+			want = api.TName
+		case strings.Contains(digits, s):
+			want = api.TNum
+		case slices.Contains(Signs(), s):
+			want = api.TSign
+		case strings.Contains("\t\n\r #", s):
+			want = api.TEnd
+		}
+		if want == 0 && (e != api.ErrForm || at != 0) || want != 0 && (e != api.OK || l[0].Kind != want) {
+			t.Errorf("%q %v %d %d", s, l, e, at)
+		}
+		for _, first := range []string{"a", "7"} {
+			l, _, _ := Tokens(first + s)
+			goes := strings.Contains(digits, s) || first == "a" && strings.Contains(letters, s)
+			if goes != (len(l) == 2 && l[0].Text == first+s) {
+				t.Errorf("%q %q %v", first, s, l)
+			}
+		}
+	}
+}
+
 // P12.2: the first fault from the left, and its place; no tokens then.
 func TestFaults(t *testing.T) {
 	for i, x := range []struct {

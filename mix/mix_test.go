@@ -68,6 +68,9 @@ func TestPlaces(t *testing.T) {
 			t.Error(seed, got, want)
 		}
 	}
+	if got := Places(b, 3, 1, 97); !slices.Equal(got, []int{Place(Hash(b, 3), 97)}) {
+		t.Error(got)
+	}
 	if got := Places(b, 0, 0, 97); len(got) != 0 {
 		t.Error(got)
 	}

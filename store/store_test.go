@@ -199,9 +199,20 @@ func TestLossy(t *testing.T) {
 func TestApart(t *testing.T) {
 	for kind := range 5 {
 		base, _, _ := Insert(made(t, kind, 9), []int{1, 1})
+		baseText := fmt.Sprint(base)
 		one, _, _ := Insert(base, []int{2, 0})
+		oneText := fmt.Sprint(one)
 		two, _, _ := Insert(base, []int{3, 0})
 		three, _ := Set(one, []int{2, 0}, 0)
+		for a := range 6 {
+			u, _, _ := Insert(one, []int{a, -1})
+			Set(u, []int{a, -1}, 1)
+			Get(u, []int{a, -1}, 0)
+			Member(u, []int{a, 0})
+		}
+		if fmt.Sprint(base) != baseText || fmt.Sprint(one) != oneText {
+			t.Error(kind, "written into")
+		}
 		a, _ := Member(base, []int{2, 0})
 		b, _ := Member(one, []int{3, 0})
 		c, _ := Member(two, []int{2, 0})

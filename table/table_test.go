@@ -3,6 +3,7 @@ package table
 import (
 	"bytes"
 	"encoding/binary"
+	"fmt"
 	"math"
 	"reflect"
 	"strconv"
@@ -151,6 +152,12 @@ func TestSameHash(t *testing.T) {
 // R3: tables that come of one another stay apart, in whatever order they go on.
 func TestApart(t *testing.T) {
 	base := of(9, "a", "b", "c")
+	text := fmt.Sprint(base)
+	defer func() {
+		if fmt.Sprint(base) != text {
+			t.Error("written into")
+		}
+	}()
 	key := []byte("d")
 	one, _, _, _ := Insert(base, key)
 	key[0] = 'x'
