@@ -56,8 +56,9 @@ func (s *search) fresh(x []int) bool {
 	return more
 }
 
-// unmarked: is a state new to inner searches? It isn't from then on. One that isn't in the store at all is behind
-// another that a lossy store took for one that was there: no outer search came to it, and no inner one goes on with it.
+// unmarked: is a state new to inner searches? It isn't from then on. One that isn't in the store is none for them: just
+// a state of the outer way leads to it, from which that way itself leads on to where the inner search began; or one that
+// a lossy store took for another.
 func (s *search) unmarked(x []int) bool {
 	is, e := store.Get(s.store, x, round)
 	if is || e != api.OK {
