@@ -62,28 +62,9 @@ func TestOf(t *testing.T) {
 func TestWords(t *testing.T) {
 	dice, yes := probe.Dice(19), 0
 	for range 3000 {
-		a := api.Aut{}
-		n := 1 + dice.Roll(5)
-		some := func(many int) []int {
-			out := []int{}
-			for range dice.Roll(many) {
-				out = append(out, dice.Roll(n))
-			}
-			return out
-		}
-		for range n {
-			l := []api.Expr{}
-			for range dice.Roll(2) {
-				l = append(l, dice.Literal(2))
-			}
-			a.Lits, a.Next = append(a.Lits, l), append(a.Next, some(5))
-		}
-		a.Init = some(4)
-		for range dice.Roll(4) {
-			a.Acc = append(a.Acc, some(5))
-		}
+		a := dice.Automaton(2, 5)
 		d := Of(a)
-		if !tab.Right(d) || len(d.Acc) != 1 || len(d.Next) != n*max(1, len(a.Acc)) {
+		if !tab.Right(d) || len(d.Acc) != 1 || len(d.Next) != len(a.Next)*max(1, len(a.Acc)) {
 			t.Fatal(a, d)
 		}
 		for range 3 {

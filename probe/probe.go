@@ -58,6 +58,31 @@ func (d *Dice) build(vars, deep int, one, two []int) api.Expr {
 	return e
 }
 
+// Automaton is an automaton of at most so many states, of any kind that is right.
+func (d *Dice) Automaton(vars, most int) api.Aut {
+	var a api.Aut
+	n := 1 + d.Roll(most)
+	some := func(many int) []int {
+		var out []int
+		for range d.Roll(many) {
+			out = append(out, d.Roll(n))
+		}
+		return out
+	}
+	for range n {
+		var l []api.Expr
+		for range d.Roll(3) {
+			l = append(l, d.Literal(vars))
+		}
+		a.Lits, a.Next = append(a.Lits, l), append(a.Next, some(5))
+	}
+	a.Init = some(4)
+	for range d.Roll(4) {
+		a.Acc = append(a.Acc, some(5))
+	}
+	return a
+}
+
 // Word is a word that goes round, of at most so many states, of small numbers.
 func (d *Dice) Word(vars, most int) api.Word {
 	w := api.Word{V: make([][]int, 1+d.Roll(most))}

@@ -160,26 +160,7 @@ func takes(a api.Aut, w api.Word) bool {
 func TestTakesAny(t *testing.T) {
 	dice, yes := probe.Dice(9), 0
 	for range 3000 {
-		a := api.Aut{}
-		n := 1 + dice.Roll(5)
-		some := func(many int) []int {
-			out := []int{}
-			for range dice.Roll(many) {
-				out = append(out, dice.Roll(n))
-			}
-			return out
-		}
-		for range n {
-			l := []api.Expr{}
-			for range dice.Roll(3) {
-				l = append(l, dice.Literal(2))
-			}
-			a.Lits, a.Next = append(a.Lits, l), append(a.Next, some(4))
-		}
-		a.Init = some(3)
-		for range dice.Roll(4) {
-			a.Acc = append(a.Acc, some(4))
-		}
+		a := dice.Automaton(2, 5)
 		w := dice.Word(2, 4)
 		want := takes(a, w)
 		if Takes(a, w) != want {
